@@ -1,0 +1,1 @@
+"""Fordbook: ways open by windows of a day, and the soonest anywhere."""
