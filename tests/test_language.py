@@ -19,6 +19,8 @@ METHODS = """append clear copy count endswith extend find get index insert isaln
 DUNDERS = ["__init__", "__eq__", "__repr__", "__str__", "__len__"]
 WORDS = """type typing typing_extensions enum Enum IntEnum StrEnum Flag IntFlag Generic Protocol ABC ABCMeta
     namedtuple NamedTuple TypedDict TYPE_CHECKING abstractmethod""".split()
+CHANGES = "append clear extend insert pop remove reverse setdefault update".split()
+VALUES = "count index title find get join lower upper split strip copy add".split()
 PLAIN = ["None", "True", "False"]
 PARTS = ["dataclass", "overload", "contextmanager"]
 UNUSED = """register mro elements open input version_info with_traceback add_note format format_map attrgetter
@@ -45,7 +47,7 @@ class Look:
         self.imported = [name for node in self.nodes if isinstance(node, ast.ImportFrom) for name in node.names]
         self.faults = []
         for look in (self.rows, self.top, self.imports, self.statements, self.expressions, self.functions,
-                     self.classes, self.names, self.calls):
+                     self.classes, self.names, self.keywords, self.walks, self.calls):
             look()
 
     def fault(self, rule, node):
@@ -97,7 +99,7 @@ class Look:
         for node in self.nodes:
             if isinstance(node, ast.stmt) and not isinstance(node, STATEMENTS):
                 self.fault("L6", node)
-            if isinstance(node, ast.Assign) and len(node.targets) != 1:
+            if isinstance(node, ast.Assign) and (len(node.targets) != 1 or isinstance(node.targets[0], ast.Tuple)):
                 self.fault("L6", node)
             if isinstance(node, (ast.For, ast.While)) and node.orelse:
                 self.fault("L6", node)
@@ -160,6 +162,7 @@ class Look:
                 self.fault("L12", 1)
             if name in dir(builtins):
                 self.fault("L15", 1)
+        self.shadows()
         for node in methods:
             if isinstance(node, ast.FunctionDef) and node.name.startswith("_") and node.name not in DUNDERS:
                 self.fault("L12", node)
@@ -169,6 +172,51 @@ class Look:
                 self.fault("L8", node)
             if any(getattr(node, part, "") in UNUSED for part in ("id", "attr", "arg", "name")):
                 self.fault("L17", node)
+
+    def shadows(self):
+        # Narrower than L15, which lets a local be called like a def of its file.
+        for top in self.tree.body:
+            if not isinstance(top, (ast.FunctionDef, ast.ClassDef)):
+                continue
+            for node in ast.walk(top):
+                stored = node.id if isinstance(node, ast.Name) and isinstance(node.ctx, ast.Store) else ""
+                if (node.arg if isinstance(node, ast.arg) else stored) in self.bound:
+                    self.fault("L15", node)
+
+    def values(self):
+        return [node.attr for node in self.nodes if isinstance(node, ast.Attribute) and isinstance(node.ctx, ast.Store)]
+
+    def keywords(self):
+        allowed = {"sorted": ("key", "reverse"), "min": ("key", "default"), "max": ("key", "default"),
+                   "sum": ("start",), "enumerate": ("start",), "zip": ("strict",)}
+        for node in self.nodes:
+            if isinstance(node, ast.Call):
+                name = node.func.id if isinstance(node.func, ast.Name) else node.func.attr
+                if name in BUILTINS + METHODS and any(part.arg not in allowed.get(name, ()) for part in node.keywords):
+                    self.fault("L22", node)
+            if isinstance(node, ast.FormattedValue):
+                if not isinstance(node.value, ast.Name) or node.format_spec or node.conversion not in (-1, 114):
+                    self.fault("L7", node)
+        for name in self.values():
+            kinds = (str, int, list, tuple, dict, set, bytes)
+            if any(name in dir(kind) for kind in kinds) and name not in VALUES:
+                self.fault("L26", 1)
+
+    def walks(self):
+        for node in self.nodes:
+            # Narrower than L24: no set at all.
+            if isinstance(node, ast.Set) or isinstance(node, ast.Name) and node.id in ("set", "frozenset"):
+                self.fault("L24", node)
+            if not isinstance(node, ast.For):
+                continue
+            walked = {part.id for part in ast.walk(node.iter) if isinstance(part, ast.Name)}
+            for part in [part for row in node.body for part in ast.walk(row)]:
+                changed = isinstance(part, ast.Call) and isinstance(part.func, ast.Attribute)
+                if changed and part.func.attr in CHANGES and getattr(part.func.value, "id", "") in walked:
+                    self.fault("L23", part)
+                stored = isinstance(part, ast.Subscript) and isinstance(part.ctx, ast.Store)
+                if stored and getattr(part.value, "id", "") in walked:
+                    self.fault("L23", part)
 
     def calls(self):
         own = self.methods + [node.name for node in self.defs]
@@ -203,6 +251,13 @@ BROKEN = [
     ("L17", "def f(x):\n    return x.open"), ("L17", "class A:\n    def open(self):\n        pass"),
     ("L19", "def f():\n    try:\n        f()\n    except Exception:\n        pass"),
     ("L20", "def f(x, y):\n    return x is y"), ("L20", "def f(x):\n    return x is 0"), ("L21", "def f(x: int):\n    return x"),
+    ("L6", "def f(x):\n    y, z = x"), ("L15", "from fordbook.clocks import come\ndef f(come):\n    return 1"),
+    ("L15", "class A:\n    pass\ndef f():\n    A = 1"), ("L22", "def f(x):\n    return x.split(sep='a')"),
+    ("L22", "def f(x):\n    return len(obj=x)"), ("L7", "def f(x):\n    return f'{x + 1}'"),
+    ("L7", "def f(x):\n    return f'{x:>3}'"), ("L24", "def f(x):\n    return set(x)"),
+    ("L26", "class A:\n    def __init__(self):\n        self.items = 1"),
+    ("L23", "def f(x):\n    for k in x:\n        x.pop()"),
+    ("L23", "def f(x):\n    for k, v in enumerate(x):\n        x[k] = 1"),
     ("L23", "def f(x):\n    return reversed(x)"), ("L25", "def f(x):\n    x.sort()"),
     ("L27", "def f(n):\n    return 2 ** n"), ("L27", "X = 'a%b'"),
 ]
@@ -227,6 +282,12 @@ class TestLanguage(unittest.TestCase):
         methods = [node.name for source in sources.values() for node in Look(source).defs]
         for name, source in sources.items():
             self.assertEqual(Look(source, methods).faults, [], name)
+
+    def test_no_name_is_a_method_here_and_a_value_there(self):
+        looks = [Look(path.read_text(encoding="utf-8")) for path in self.files()]
+        classes = [node for look in looks for node in look.nodes if isinstance(node, ast.ClassDef)]
+        methods = {part.name for node in classes for part in node.body if isinstance(part, ast.FunctionDef)}
+        self.assertEqual(methods & {name for look in looks for name in look.values()}, set())
 
     def test_a_name_is_drawn_from_the_file_that_defines_it_and_none_in_a_ring(self):
         drawn = {}
