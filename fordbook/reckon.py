@@ -29,7 +29,7 @@ def joined(day, one, other, late):
 
 def sooner(day, one, other):
     if len(one) == 0 or len(other) == 0:
-        return list(one) + list(other)
+        return one + other
     return joined(day, one, other, False)
 
 
