@@ -4,7 +4,6 @@ from fordbook.stretches import overlay
 
 
 def later_within(row):
-    # The first moment of an overlay's part at which the one comes later than the other, or None.
     p = row[0]
     v = row[3]
     other_v = row[5]

@@ -7,7 +7,6 @@ from fordbook.windows import is_board
 
 
 def picked(p, q, waiting, riding, late):
-    # Of who waits until waiting and who rides for riding: the later one's parts, or the sooner one's.
     # Up to the cut who rides comes no later than who waits, behind it no sooner.
     cut = waiting - riding
     ahead = (p, min(q, cut), late, waiting if late else riding)
@@ -40,7 +39,7 @@ def later(day, one, other):
 
 
 def ridden(day, p, q, ride, others):
-    # What the other clock, by its stretches, tells at x + ride, for x from p to q.
+    # A ride may lead over midnight, so the other clock's stretches are walked round.
     hour = (p + ride) % day
     midnight = p + ride - hour
     k = first_where(others, lambda row: hour <= row[1])

@@ -25,7 +25,7 @@ def first_wait(row):
 
 
 def overlay(day, one, other):
-    # The day in parts (p, q, still, v, other still, other v) within which neither clock has an end of a stretch.
+    # Within one part neither stretch ends, so that what both tell can be set side by side.
     ones = stretches(day, one)
     others = stretches(day, other)
     rows = []
@@ -53,7 +53,7 @@ def put_window(clock, a, b, c):
 
 
 def clock_from(day, rows):
-    # The clock that tells what these rows tell, which are such as stretches but may be cut anyhow.
+    # The rows may be cut anyhow: only what they tell counts, so that what tells the same is an equal list.
     clock = []
     for k, row in enumerate(rows):
         following = first_told(rows[k + 1]) if k + 1 < len(rows) else day + first_told(rows[0])
